@@ -1,0 +1,1 @@
+"""Handwalk: a walker who exchanges the thing in the hand in every passage."""
