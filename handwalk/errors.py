@@ -71,3 +71,11 @@ class InvalidAnswer(HandwalkError):
     def __init__(self, part):
         super().__init__("this is not a correct answer")
         self.part = part
+
+
+class LimitExceeded(HandwalkError):
+    """There are more states or steps than the limit allows."""
+
+    def __init__(self, limit):
+        super().__init__("there are more than the limit allows")
+        self.limit = limit

@@ -14,6 +14,7 @@ FIELDS = {
     "InvalidPermutation": ("value",),
     "SizeMismatch": ("sizes",),
     "InvalidAnswer": ("part",),
+    "LimitExceeded": ("limit",),
 }
 
 

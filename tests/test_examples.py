@@ -20,6 +20,38 @@ NETWORKS = """
 (2, (0, (0, 1, 2)), (0,), ((0,), (1,)), (0,))
 """
 
+MOVES = """
+>>> from handwalk.moves import after, effect, reduced, trace
+>>> from handwalk.networks import Network
+>>> network = Network(2, ((0, 1), (0, 1)))
+>>> list(trace(network, network.start, 0, 1)), effect(network, 0, 0, 1), reduced(0, 1, 1, 0, 1)
+([(0, (0, 1, 2)), (1, (2, 1, 0)), (0, (2, 0, 1))], (1, 2, 0), (1,))
+"""
+
+DECISIONS = """
+>>> from handwalk.decisions import check_decision, decide, parts
+>>> from handwalk.networks import Network
+>>> network = Network(2, ((0, 1), (0, 1)))
+>>> check_decision(network, (0, (2, 0, 1)), ("walk", (0, 1))), decide(network, (0, (1, 0, 2)))[0], parts(network)[0].circle
+('walk', 'ring', (2, 0, 1))
+"""
+
+BRIDGE_DECISIONS = """
+>>> from handwalk.decisions import check_decision, decide, parts
+>>> from handwalk.networks import Network
+>>> network = Network(2, ((0, 1), (1, 1)))
+>>> decide(network, (0, (1, 0, 2))), decide(network, (0, (2, 1, 0)))[0], parts(network)[0].gate
+(('walk', (0, 1, 0)), 'astray', 0)
+"""
+
+LISTING = """
+>>> from handwalk.listing import count_arrangements, count_states, farthest, states, walk_to
+>>> from handwalk.networks import Network
+>>> network = Network(2, ((0, 1), (0, 1)))
+>>> count_arrangements(network), count_states(network), list(states(network))[1:3], farthest(network)[0], walk_to(network, (0, (1, 2, 0)))
+(3, 6, [(1, (1, (0, 2, 1))), (1, (1, (2, 1, 0)))], 3, (1, 0))
+"""
+
 NAMED_NETWORKS = """
 >>> from handwalk.networks import Network
 >>> A = Network(2, ((0, 1), (0, 1)))
@@ -42,6 +74,16 @@ class TestExamples(unittest.TestCase):
 
     def test_networks(self):
         self.check(NETWORKS)
+
+    def test_moves(self):
+        self.check(MOVES)
+
+    def test_decisions(self):
+        self.check(DECISIONS)
+        self.check(BRIDGE_DECISIONS)
+
+    def test_listing(self):
+        self.check(LISTING)
 
     def test_the_networks_of_the_examples(self):
         self.check(NAMED_NETWORKS)

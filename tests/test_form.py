@@ -18,7 +18,30 @@ FUNCTIONS = {
         "order": "(permutation)",
         "is_even": "(permutation)",
     },
+    "moves": {
+        "check_state": "(network, state)",
+        "trace": "(network, state, *steps)",
+        "after": "(network, state, *steps)",
+        "back": "(*steps)",
+        "reduced": "(*steps)",
+        "effect": "(network, place, *steps)",
+    },
+    "decisions": {
+        "parts": "(network)",
+        "is_reachable": "(network, state)",
+        "decide": "(network, state)",
+        "check_decision": "(network, state, answer)",
+    },
+    "listing": {
+        "count_arrangements": "(network)",
+        "count_states": "(network)",
+        "states": "(network)",
+        "farthest": "(network)",
+        "walk_to": "(network, state)",
+    },
 }
+
+GENERATORS = (("moves", "trace"), ("listing", "states"))
 
 METHODS = {
     ("networks", "Network"): {
@@ -31,6 +54,14 @@ METHODS = {
         "far_end": "(self, passage, place)",
         "way": "(self, place, goal)",
     },
+    ("parts", "Part"): {"arrangements": "(self)", "problem": "(self, things)"},
+    ("parts", "EvenPart"): {"arrangements": "(self)", "problem": "(self, things)"},
+    ("parts", "RingPart"): {"arrangements": "(self)", "problem": "(self, things)"},
+    ("parts", "SpecialPart"): {
+        "arrangements": "(self)",
+        "problem": "(self, things)",
+        "keeps_ratio": "(self, things, four)",
+    },
     ("errors", "InvalidNetwork"): {"__init__": "(self, part, index=None)"},
     ("errors", "InvalidPlace"): {"__init__": "(self, value)"},
     ("errors", "InvalidPassage"): {"__init__": "(self, value)"},
@@ -39,9 +70,15 @@ METHODS = {
     ("errors", "InvalidPermutation"): {"__init__": "(self, value)"},
     ("errors", "SizeMismatch"): {"__init__": "(self, sizes)"},
     ("errors", "InvalidAnswer"): {"__init__": "(self, part)"},
+    ("errors", "LimitExceeded"): {"__init__": "(self, limit)"},
 }
 
-PROPERTIES = {("networks", "Network"): ("places", "passages", "start", "bridges", "cells")}
+PROPERTIES = {
+    ("networks", "Network"): ("places", "passages", "start", "bridges", "cells"),
+    ("parts", "Part"): ("name", "cell", "gate", "seats", "rings"),
+    ("parts", "RingPart"): ("circle",),
+    ("parts", "SpecialPart"): ("marks",),
+}
 
 LIBRARY = {
     "heapq": {"heappush", "heappop", "heapify", "heapreplace", "heappushpop"},
@@ -76,6 +113,10 @@ class TestInterface(unittest.TestCase):
                     function = read(module, name)
                     self.assertEqual(function.__module__, "handwalk." + module)
                     self.assertEqual(str(inspect.signature(function)), parameters)
+
+    def test_generators(self):
+        for module, name in GENERATORS:
+            self.assertTrue(inspect.isgeneratorfunction(read(module, name)))
 
     def test_methods_are_defined_in_their_class(self):
         for (module, name), methods in METHODS.items():
@@ -130,7 +171,8 @@ class TestLanguage(unittest.TestCase):
     def test_builtins_and_literals(self):
         for path, tree in trees():
             for node in ast.walk(tree):
-                if isinstance(node, ast.Name) and hasattr(builtins, node.id):
+                # The tests of the examples, which may run before, make _ a builtin.
+                if isinstance(node, ast.Name) and node.id != "_" and hasattr(builtins, node.id):
                     self.assertIn(node.id, BUILTINS, (path.name, node.lineno))
                     self.assertIsInstance(node.ctx, ast.Load, (path.name, node.lineno))
                 if isinstance(node, ast.Constant):
