@@ -79,3 +79,44 @@ class LimitExceeded(HandwalkError):
     def __init__(self, limit):
         super().__init__("there are more than the limit allows")
         self.limit = limit
+
+
+class InvalidThing(HandwalkError):
+    """A value is not a thing of the network."""
+
+    def __init__(self, value):
+        super().__init__("this is not a thing of the network")
+        self.value = value
+
+
+class InvalidPosition(HandwalkError):
+    """A value is not a position of the network."""
+
+    def __init__(self, value):
+        super().__init__("this is not a position of the network")
+        self.value = value
+
+
+class InvalidKinds(HandwalkError):
+    """A value does not give every thing or every position of the network a kind."""
+
+    def __init__(self, part, index=None):
+        super().__init__("these are not kinds for the network")
+        self.part = part
+        self.index = index
+
+
+class NothingToUndo(HandwalkError):
+    """A walker without steps is asked to take one back."""
+
+    def __init__(self):
+        super().__init__("there is no step to take back")
+
+
+class ParseError(HandwalkError):
+    """A value is not the text of a walker."""
+
+    def __init__(self, line, word):
+        super().__init__("this is not the text of a walker")
+        self.line = line
+        self.word = word

@@ -6,7 +6,7 @@ from handwalk.checks import is_whole
 from handwalk.moves import back
 from handwalk.permutations import inverse, is_even
 from handwalk.ratios import marks_of, same_ratio
-from handwalk.searching import least_walk
+from handwalk.searching import found_states, least_walk
 from handwalk.turns import walk_with
 
 
@@ -73,6 +73,29 @@ class Part:
         """
         return False
 
+    def filling(self, kinds, pattern):
+        """Return the tuple of the things on the seats in a possible arrangement with this pattern, or None.
+
+        The kinds are those of the things. The tuple has the order of the seats.
+        """
+        waiting = list(self._seats)
+        filling = []
+        for seat in self._seats:
+            fitting = [thing for thing in waiting if kinds[thing] == pattern[seat]]
+            if not fitting:
+                return None
+            filling.append(fitting[0])
+            waiting.remove(fitting[0])
+        return tuple(filling)
+
+    def pattern_count(self, kinds):
+        """Return how many patterns on the seats are possible with things of these kinds."""
+        many = factorial(len(self._seats))
+        shown = [kinds[thing] for thing in self._seats]
+        for kind in sorted(set(shown)):
+            many = many // factorial(shown.count(kind))
+        return many
+
     def round_walk(self, things):
         """Return a walk from place 0 to place 0 that moves just the things of the part.
 
@@ -118,6 +141,20 @@ class EvenPart(Part):
         """Return True if the answer with this word and these details is right."""
         return word == "odd" and len(details) == 0 and not is_even(self._moved(things))
 
+    def filling(self, kinds, pattern):
+        """Return the tuple of the things on the seats in a possible arrangement with this pattern, or None."""
+        filling = super().filling(kinds, pattern)
+        if filling is None or is_even(tuple([self._seats.index(thing) for thing in filling])):
+            return filling
+        # Two things of the same kind may change their seats, which makes an odd permutation even.
+        return _with_alike_exchanged(kinds, filling)
+
+    def pattern_count(self, kinds):
+        """Return how many patterns on the seats are possible with things of these kinds."""
+        if _with_alike_exchanged(kinds, self._seats) is None:
+            return self.arrangements()
+        return super().pattern_count(kinds)
+
 
 class RingPart(Part):
     """A part of the kind "ring": its things are a rotation of the circle."""
@@ -151,6 +188,23 @@ class RingPart(Part):
             return False
         x, y = details
         return is_whole(x) and is_whole(y) and (x, y) in self._breaks(things)
+
+    def filling(self, kinds, pattern):
+        """Return the tuple of the things on the seats in a possible arrangement with this pattern, or None."""
+        return _first_showing(self._fillings(), kinds, [pattern[seat] for seat in self._seats])
+
+    def pattern_count(self, kinds):
+        """Return how many patterns on the seats are possible with things of these kinds."""
+        return _count_shown(self._fillings(), kinds)
+
+    def _fillings(self):
+        """Return the list of the tuples of the things on the seats in all possible arrangements."""
+        circle = self._circle
+        found = []
+        for turn in range(len(circle)):
+            things = dict(zip(circle, circle[turn:] + circle[:turn]))
+            found.append(tuple([things[seat] for seat in self._seats]))
+        return found
 
     def _breaks(self, things):
         """Return the list of the pairs of things that follow each other in the circle, but not at their seats."""
@@ -214,6 +268,24 @@ class SpecialPart(Part):
         four = details[0]
         return self._is_four(four) and not self.keeps_ratio(things, four)
 
+    def filling(self, kinds, pattern):
+        """Return the tuple of the things on the seats in a possible arrangement with this pattern, or None."""
+        return _first_showing(self._fillings(), kinds, [pattern[seat] for seat in self._seats])
+
+    def pattern_count(self, kinds):
+        """Return how many patterns on the seats are possible with things of these kinds."""
+        return _count_shown(self._fillings(), kinds)
+
+    def _fillings(self):
+        """Return the list of the tuples of the things on the seats in all possible arrangements."""
+        seats = [*self._passages, self._gate]
+        found = []
+        for place, order in found_states(self._inner):
+            if place == 0:
+                things = {seats[position]: seats[thing] for position, thing in enumerate(order)}
+                found.append(tuple([things[seat] for seat in self._seats]))
+        return found
+
     def _is_four(self, value):
         """Return True if the value is a tuple of four different things of the part."""
         if not isinstance(value, tuple) or len(value) != 4:
@@ -237,3 +309,28 @@ def _ring_of(inner):
         walk.append(onward[0])
         place = inner.far_end(onward[0], place)
     return tuple(walk)
+
+
+def _with_alike_exchanged(kinds, things):
+    """Return the tuple of the things with two of the same kind exchanged, or None if no two have the same kind."""
+    shown = [kinds[thing] for thing in things]
+    for later, kind in enumerate(shown):
+        earlier = shown.index(kind)
+        if earlier < later:
+            exchanged = list(things)
+            exchanged[earlier], exchanged[later] = things[later], things[earlier]
+            return tuple(exchanged)
+    return None
+
+
+def _first_showing(fillings, kinds, wanted):
+    """Return the first one of the tuples of things that shows the list of kinds that is wanted, or None."""
+    for filling in fillings:
+        if [kinds[thing] for thing in filling] == wanted:
+            return filling
+    return None
+
+
+def _count_shown(fillings, kinds):
+    """Return how many different patterns the tuples of things show."""
+    return len({tuple([kinds[thing] for thing in filling]) for filling in fillings})

@@ -216,3 +216,39 @@ def is_right(network, described, state, answer):
     if answer[0] == "astray":
         return answer[1] in astray(network, described, things)
     return any(part.is_right(things, answer) for part in described)
+
+
+def spot_after(network, spot, passage):
+    """Return the spot of a thing after the step, or None if the number is not a step there."""
+    place, position = spot
+    hand = len(network.passages)
+    if place not in network.passages[passage]:
+        return None
+    if position in (passage, hand):
+        position = passage + hand - position
+    return far_end(network, passage, place), position
+
+
+def all_spots(network, spot):
+    """Return the dict of the least shortest walks that bring a thing from the spot to all spots that it can reach."""
+    walks = {spot: ()}
+    newest = dict(walks)
+    while newest:
+        reached = {}
+        for spot, walk in newest.items():
+            for passage in range(len(network.passages)):
+                goal = spot_after(network, spot, passage)
+                if goal is not None and goal not in walks:
+                    reached[goal] = min((*walk, passage), reached.get(goal, (99,)))
+        walks.update(reached)
+        newest = reached
+    return walks
+
+
+def least_of(walks):
+    """Return the least one of the shortest walks, or None if there are none."""
+    return min(walks, key=lambda walk: (len(walk), walk), default=None)
+
+
+def pattern_of(kinds, things):
+    return tuple(kinds[thing] for thing in things)

@@ -15,6 +15,11 @@ FIELDS = {
     "SizeMismatch": ("sizes",),
     "InvalidAnswer": ("part",),
     "LimitExceeded": ("limit",),
+    "InvalidThing": ("value",),
+    "InvalidPosition": ("value",),
+    "InvalidKinds": ("part", "index"),
+    "NothingToUndo": (),
+    "ParseError": ("line", "word"),
 }
 
 
@@ -26,6 +31,17 @@ class TestErrors(QuickTestCase):
         for name in FIELDS:
             with self.subTest(name):
                 self.assertEqual(getattr(errors, name).__bases__, (errors.HandwalkError,))
+
+    def test_each_is_a_value_error_and_of_no_other_class_of_the_package(self):
+        for name, fields in FIELDS.items():
+            error = getattr(errors, name)(*fields)
+            for other in ("HandwalkError", *FIELDS):
+                self.assertIs(isinstance(error, getattr(errors, other)), other in (name, "HandwalkError"))
+            self.assertIsInstance(error, ValueError)
+
+    def test_there_are_no_further_ones(self):
+        found = [name for name, value in vars(errors).items() if isinstance(value, type)]
+        self.assertEqual(sorted(found), sorted(["HandwalkError", *FIELDS]))
 
     def test_each_is_defined_in_the_module(self):
         for name in ("HandwalkError", *FIELDS):
@@ -43,15 +59,18 @@ class TestErrors(QuickTestCase):
                     self.assertIs(getattr(by_position, field), value)
                     self.assertIs(getattr(by_name, field), value)
 
-    def test_the_index_of_a_network_may_be_missing(self):
-        self.assertIsNone(errors.InvalidNetwork("places").index)
-        self.assertIsNone(errors.InvalidNetwork(part="places").index)
-        self.assertEqual(errors.InvalidNetwork("passages", 0).index, 0)
+    def test_the_index_may_be_missing(self):
+        for error_class in (errors.InvalidNetwork, errors.InvalidKinds):
+            self.assertIsNone(error_class("kinds").index)
+            self.assertIsNone(error_class(part="kinds").index)
+            self.assertEqual(error_class("kinds", 0).index, 0)
 
     def test_other_parameters_may_not_be_missing(self):
-        for name in FIELDS:
+        for name, fields in FIELDS.items():
             with self.subTest(name):
-                self.assertRaises(TypeError, getattr(errors, name))
+                if fields:
+                    self.assertRaises(TypeError, getattr(errors, name))
+                self.assertRaises(TypeError, getattr(errors, name), *fields, None)
 
     def test_they_can_be_caught_as_the_base_class(self):
         for name, fields in FIELDS.items():
@@ -60,8 +79,8 @@ class TestErrors(QuickTestCase):
 
     def test_their_texts_are_short_whatever_the_value(self):
         for value in deep_values():
-            for name in FIELDS:
-                error = getattr(errors, name)(value)
+            for name, fields in FIELDS.items():
+                error = getattr(errors, name)(*[value] * len(fields))
                 self.assertTrue(0 < len(str(error)) < 200)
                 self.assertTrue(len(repr(error)) < 200)
 

@@ -52,6 +52,29 @@ LISTING = """
 (3, 6, [(1, (1, (0, 2, 1))), (1, (1, (2, 1, 0)))], 3, (1, 0))
 """
 
+BRINGING = """
+>>> from handwalk.bringing import bring, reachable_spots
+>>> from handwalk.networks import Network
+>>> network = Network(2, ((0, 1), (1, 1)))
+>>> reachable_spots(network, 1), bring(network, 1, 0), bring(network, 1, 0, place=1)
+(((0, 0), (0, 1), (1, 1), (1, 2)), (0, 1, 0), None)
+"""
+
+KINDS = """
+>>> from handwalk.kinds import count_patterns, match
+>>> from handwalk.networks import Network
+>>> network = Network(2, ((0, 1), (0, 1)))
+>>> match(network, (5, 5, 7), (7, 5, 5)), match(network, (5, 5, 7), (7, 7, 5)), count_patterns(network, (5, 5, 7))
+((2, 0, 1), None, 3)
+"""
+
+CONSOLE = """
+>>> from handwalk.console import Console
+>>> console = Console()
+>>> console.run("new 0 1 / 0 1"), console.run("walk 0 1"), console.run("state"), console.run("bring 2 0")
+('ok', '0', '0 2 0 1', '0')
+"""
+
 NAMED_NETWORKS = """
 >>> from handwalk.networks import Network
 >>> A = Network(2, ((0, 1), (0, 1)))
@@ -84,6 +107,15 @@ class TestExamples(unittest.TestCase):
 
     def test_listing(self):
         self.check(LISTING)
+
+    def test_bringing(self):
+        self.check(BRINGING)
+
+    def test_kinds(self):
+        self.check(KINDS)
+
+    def test_console(self):
+        self.check(CONSOLE)
 
     def test_the_networks_of_the_examples(self):
         self.check(NAMED_NETWORKS)

@@ -5,6 +5,7 @@ import builtins
 import importlib
 import inspect
 import pathlib
+import re
 import unittest
 
 FOLDER = pathlib.Path(__file__).resolve().parent.parent / "handwalk"
@@ -39,6 +40,8 @@ FUNCTIONS = {
         "farthest": "(network)",
         "walk_to": "(network, state)",
     },
+    "bringing": {"reachable_spots": "(network, thing)", "bring": "(network, thing, position, *, place=None)"},
+    "kinds": {"match": "(network, kinds, pattern)", "count_patterns": "(network, kinds)"},
 }
 
 GENERATORS = (("moves", "trace"), ("listing", "states"))
@@ -71,13 +74,49 @@ METHODS = {
     ("errors", "SizeMismatch"): {"__init__": "(self, sizes)"},
     ("errors", "InvalidAnswer"): {"__init__": "(self, part)"},
     ("errors", "LimitExceeded"): {"__init__": "(self, limit)"},
+    ("errors", "InvalidThing"): {"__init__": "(self, value)"},
+    ("errors", "InvalidPosition"): {"__init__": "(self, value)"},
+    ("errors", "InvalidKinds"): {"__init__": "(self, part, index=None)"},
+    ("errors", "NothingToUndo"): {"__init__": "(self)"},
+    ("errors", "ParseError"): {"__init__": "(self, line, word)"},
+    ("walkers", "Walker"): {
+        "__init__": "(self, network, *steps)",
+        "__len__": "(self)",
+        "__eq__": "(self, other)",
+        "step": "(self, passage)",
+        "walk": "(self, *steps)",
+        "peek": "(self, *steps)",
+        "back": "(self)",
+        "history": "(self)",
+        "choices": "(self)",
+        "summary": "(self)",
+        "copy": "(self)",
+        "text": "(self)",
+        "read": "(text)",
+        "is_text": "(value)",
+    },
+    ("walkers", "Stroller"): {"step": "(self, passage)", "walk": "(self, *steps)", "peek": "(self, *steps)"},
+    ("walkers", "Carrier"): {
+        "__init__": "(self, network, *steps, thing, position)",
+        "__eq__": "(self, other)",
+        "summary": "(self)",
+        "copy": "(self)",
+        "left": "(self)",
+    },
+    ("walkers", "StrollingCarrier"): {"__init__": "(self, network, *steps, thing, position)"},
+    ("console", "Console"): {"__init__": "(self)", "run": "(self, command)"},
 }
+
+STATIC_METHODS = (("networks", "Network", "is_valid"), ("walkers", "Walker", "is_text"))
+CLASS_METHODS = (("networks", "Network", "joined"), ("walkers", "Walker", "read"))
 
 PROPERTIES = {
     ("networks", "Network"): ("places", "passages", "start", "bridges", "cells"),
     ("parts", "Part"): ("name", "cell", "gate", "seats", "rings"),
     ("parts", "RingPart"): ("circle",),
     ("parts", "SpecialPart"): ("marks",),
+    ("walkers", "Walker"): ("network", "state", "place", "things", "hand", "steps", "is_home"),
+    ("walkers", "Carrier"): ("thing", "position", "is_done", "arrivals"),
 }
 
 LIBRARY = {
@@ -92,7 +131,7 @@ LIBRARY = {
 BUILTINS = set("""
     len range enumerate zip min max sum abs sorted reversed int str bool list tuple dict set isinstance ord repr any all
     divmod pow map iter next super property staticmethod classmethod ValueError TypeError KeyError IndexError
-    LookupError NotImplemented StopIteration
+    LookupError NotImplemented StopIteration type
 """.split())
 
 
@@ -117,6 +156,8 @@ class TestInterface(unittest.TestCase):
     def test_generators(self):
         for module, name in GENERATORS:
             self.assertTrue(inspect.isgeneratorfunction(read(module, name)))
+        for name in ("history", "choices"):
+            self.assertTrue(inspect.isgeneratorfunction(getattr(read("walkers", "Walker"), name)))
 
     def test_methods_are_defined_in_their_class(self):
         for (module, name), methods in METHODS.items():
@@ -134,9 +175,10 @@ class TestInterface(unittest.TestCase):
                     self.assertIsInstance(vars(read(module, name))[word], property)
 
     def test_static_and_class_methods(self):
-        network = vars(read("networks", "Network"))
-        self.assertIsInstance(network["is_valid"], staticmethod)
-        self.assertIsInstance(network["joined"], classmethod)
+        for module, name, method in STATIC_METHODS:
+            self.assertIsInstance(vars(read(module, name))[method], staticmethod)
+        for module, name, method in CLASS_METHODS:
+            self.assertIsInstance(vars(read(module, name))[method], classmethod)
 
 
 class TestLanguage(unittest.TestCase):
@@ -177,6 +219,19 @@ class TestLanguage(unittest.TestCase):
                     self.assertIsInstance(node.ctx, ast.Load, (path.name, node.lineno))
                 if isinstance(node, ast.Constant):
                     self.assertNotIsInstance(node.value, (float, complex), (path.name, node.lineno))
+
+    def test_classes_are_only_compared(self):
+        for path, tree in trees():
+            text = path.read_text(encoding="ascii")
+            calls = [node for node in ast.walk(tree) if isinstance(node, ast.Name) and node.id == "type"]
+            self.assertEqual(len(calls), 2 * len(re.findall(r"\btype\(\w+\) is type\(\w+\)", text)), path.name)
+
+    def test_generators_share_their_names_with_nothing(self):
+        names = []
+        for _, tree in trees():
+            names += [node.name for node in ast.walk(tree) if isinstance(node, ast.FunctionDef)]
+        for name in ("trace", "states", "history", "choices"):
+            self.assertEqual(names.count(name), 1)
 
 
 if __name__ == "__main__":
